@@ -270,6 +270,20 @@ func TestTwoStores(t *testing.T) {
 	told(t, a, api.Did{Kind: api.DAdd, At: 1, Old: 0, New: 6}, 2)
 }
 
+// A copy by value has the same words, with a last access and a count of its own: the arena leans on it, where something is no access.
+func TestCopyByValue(t *testing.T) {
+	s := made(t, 1, 2)
+	last := s.Last()
+	aside := *s
+	aside.Put(0, 7)
+	aside.Load(1)
+	stands(t, s, 7, 2)
+	told(t, s, last, 2)
+	told(t, &aside, api.Did{Kind: api.DLoad, At: 1, Old: 2, New: 2}, 4)
+	s.Put(1, 9)
+	stands(t, &aside, 7, 9)
+}
+
 // R6: ErrNone is told of a nil store whatever word is asked for.
 func TestNil(t *testing.T) {
 	var s *Store
